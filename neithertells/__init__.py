@@ -1,0 +1,1 @@
+"""Neithertells: two sets that no program present can decide from each other."""
