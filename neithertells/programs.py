@@ -19,9 +19,14 @@ TELLER_ROLES = {"ask": ("sign", "term", "variable"), "answer": ("answer",)}
 COLLECTOR_ROLES = {"grow": ("term",), "list": ("term",)}
 
 
+def is_integer_from(thing, least):
+    """Tell whether a thing is an integer that is not below this bound."""
+    return isinstance(thing, int) and not isinstance(thing, bool) and least <= thing
+
+
 def is_integer_from_to(thing, least, greatest):
     """Tell whether a thing is an integer within these bounds."""
-    return isinstance(thing, int) and not isinstance(thing, bool) and least <= thing <= greatest
+    return is_integer_from(thing, least) and thing <= greatest
 
 
 def is_term(thing):

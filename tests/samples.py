@@ -1,6 +1,8 @@
-"""Programs and things that several tests use."""
+"""Programs and things that several tests use, and plain runs and lists to compare with."""
 
 import random
+
+from neithertells.notation import read
 
 TELLER_STATEMENTS = (
     ("ask", "+", "b", "a"),
@@ -85,6 +87,14 @@ NO_PROGRAMS = (
     ("teller", (("set", "a", 0),) * 1900),
 )
 
+# Things that are not integers, whatever they look like.
+NO_INTEGERS = (None, True, False, "", "0", "1", "x" * 5000, [], (), [0], (1,), [[1]], ((), [None]), ["left"])
+
+
+def program(text):
+    """The program whose text this is, with "; " in place of each newline."""
+    return read(text.replace("; ", "\n"))
+
 
 def nested_list(depth):
     """A list in a list and so on."""
@@ -147,3 +157,72 @@ def random_programs(seed, many):
         kind = ("teller", "collector")[at % 2]
         programs.append((kind, random_body(source, kind, 1, [24])))
     return programs
+
+
+def is_true(held, condition):
+    """Whether a condition holds for these values of the variables."""
+    variable, sign, term = condition
+    other = held.get(term, term)
+    return {"==": held[variable] == other, "!=": held[variable] != other, "<": held[variable] < other}[sign]
+
+
+def plain_steps(body, held):
+    """Each thing that takes steps, as it comes up: the number of steps and the statement, or None for a test or jump."""
+    for statement in body:
+        word = statement[0]
+        if word == "while":
+            yield 1, None
+            while is_true(held, statement[1]):
+                yield from plain_steps(statement[2], held)
+                yield 1, None
+                yield 1, None
+        elif word == "if":
+            yield 1, None
+            if is_true(held, statement[1]):
+                yield from plain_steps(statement[2], held)
+                if statement[3]:
+                    yield 1, None
+            else:
+                yield from plain_steps(statement[3], held)
+        else:
+            yield (statement[1] if word == "wait" else 1), statement
+            if word == "set":
+                held[statement[1]] = statement[2]
+            if word == "add":
+                held[statement[1]] = (held[statement[1]] + held.get(statement[2], statement[2])) % 16
+
+
+def plain_run(teller, position, members, limit):
+    """The run within a limit, straight from the statements."""
+    held = {"a": 0, "b": 0}
+    taken = 0
+    asked = set()
+    for steps, statement in plain_steps(teller[1], held):
+        if taken + steps > limit:
+            return ("running", None, None, None, None, sorted(asked))
+        taken += steps
+        word = statement and statement[0]
+        if word == "answer":
+            return ("answered", statement[1], taken, None, None, sorted(asked))
+        if word == "ask":
+            term = held.get(statement[2], statement[2])
+            place = {"+": position + term, "-": position - term, "=": term}[statement[1]]
+            held[statement[3]] = int(place >= 0 and place in members)
+            asked.update({place} if place >= 0 else set())
+    return ("ended", None, taken, None, None, sorted(asked))
+
+
+def plain_list(collector, limit):
+    """The list within a limit, straight from the statements."""
+    held = {"a": 0, "b": 0}
+    taken, n = 0, 0
+    rows = []
+    for steps, statement in plain_steps(collector[1], held):
+        if taken + steps > limit:
+            break
+        taken += steps
+        if statement and statement[0] == "grow":
+            n += held.get(statement[1], statement[1])
+        if statement and statement[0] == "list":
+            rows.append((taken, n + held.get(statement[1], statement[1])))
+    return rows

@@ -82,6 +82,40 @@ class LanguageTest(unittest.TestCase):
                     self.assertIsInstance(other, ast.Constant, name)
                     self.assertIn(other.value, (None, True, False), name)
 
+    def test_no_name_is_a_method_and_an_attribute(self):
+        methods = {
+            inner.name for name, node in self.nodes(ast.ClassDef) for inner in node.body if isinstance(inner, ast.FunctionDef)
+        }
+        stored = {node.attr for name, node in self.nodes(ast.Attribute) if isinstance(node.ctx, ast.Store)}
+        self.assertEqual(methods & stored, set())
+        builtin = {attr for kind in (str, int, list, tuple, dict, set, bytes) for attr in dir(kind)}
+        self.assertEqual((methods - set(METHODS) | stored) & builtin - {"index"}, set())
+
+    def test_what_own_equality_and_length_rule_out(self):
+        for name, node in self.nodes(ast.GeneratorExp, ast.Match, ast.Yield, ast.YieldFrom):
+            self.fail((name, node))
+        for name, node in self.nodes(ast.Attribute):
+            self.assertNotEqual(node.attr, "sort", name)
+        for name, node in self.nodes(ast.ExceptHandler):
+            self.fail((name, node))
+        for name, node in self.nodes(ast.Try):
+            for inner in node.finalbody:
+                self.assertIsInstance(inner, ast.Assign, name)
+                self.assertIsInstance(inner.value, (ast.Name, ast.Attribute, ast.Constant), name)
+
+    def test_local_names(self):
+        for path in sources():
+            tree = ast.parse(path.read_text())
+            taken = set()
+            for node in tree.body:
+                if isinstance(node, ast.ImportFrom):
+                    taken.update(alias.name for alias in node.names)
+                if isinstance(node, (ast.ClassDef, ast.FunctionDef)):
+                    taken.add(node.name)
+            local = {node.arg for node in ast.walk(tree) if isinstance(node, ast.arg)}
+            local |= {node.id for node in ast.walk(tree) if isinstance(node, ast.Name) and isinstance(node.ctx, ast.Store)}
+            self.assertEqual(taken & local, set(), path)
+
 
 if __name__ == "__main__":
     unittest.main()
