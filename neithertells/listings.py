@@ -118,6 +118,16 @@ class Listing:
                 steps.append(step + (integer - least) // self.shift * self.period)
         return min(steps, default=None)
 
+    def has(self, step, integer):
+        """Tell whether the list contains this tuple."""
+        if (step, integer) in self.kept_head:
+            return True
+        for first, least in self.kept_cycle:
+            times = (step - first) // self.period
+            if times >= 0 and (step, integer) == (first + times * self.period, least + times * self.shift):
+                return True
+        return False
+
     def family(self, integer):
         """Return what the integers have in common that the same tuple of the cycle lists, round after round."""
         return integer % self.shift if self.shift > 0 else integer

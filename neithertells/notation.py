@@ -90,12 +90,15 @@ def ask_parts(words):
 
 def number_or_word(word):
     """Return the integer that a word says, or the word itself if it says none that a program may contain."""
+    return int(word) if is_decimal(word, len(str(LONGEST_WAIT))) else word
+
+
+def is_decimal(word, most):
+    """Tell whether a word is a decimal integer of at most so many digits, without leading zeros."""
     # Python refuses to convert very long numbers, so the length is checked before the value.
-    if not word.isascii() or not word.isdigit() or len(word) > len(str(LONGEST_WAIT)):
-        return word
-    if word.startswith("0") and word != "0":
-        return word
-    return int(word)
+    if not word.isascii() or not word.isdigit() or len(word) > most:
+        return False
+    return word == "0" or not word.startswith("0")
 
 
 class Block:

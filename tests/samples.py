@@ -1,7 +1,8 @@
-"""Programs and things that several tests use, and plain runs and lists to compare with."""
+"""Programs, machines and things that several tests use, and plain runs and lists to compare with."""
 
 import random
 
+from neithertells.house import SIDES
 from neithertells.notation import read
 
 TELLER_STATEMENTS = (
@@ -226,3 +227,68 @@ def plain_list(collector, limit):
         if statement and statement[0] == "list":
             rows.append((taken, n + held.get(statement[1], statement[1])))
     return rows
+
+
+def view(house):
+    """All that the calls of a house tell."""
+    return (
+        house.clock(), house.numbers(), house.history(), house.next_act(), len(house), repr(house),
+        [house.members(side) for side in SIDES], [house.guards(side) for side in SIDES],
+        [(house.rank(number), house.is_satisfied(number), house.starts(number), house.acts(number), house.facts(number))
+         for number in house.numbers()],
+    )
+
+
+def drawn_ask(source):
+    sign = source.choice("+-=")
+    return ("ask", sign, source.choice((0, 1, 2, 3, 5, 8, 13, "a", "b")), source.choice("ab"))
+
+
+def drawn_plain(source):
+    return source.choice((
+        ("wait", source.randrange(1, 7)),
+        ("set", source.choice("ab"), source.randrange(16)),
+        ("add", source.choice("ab"), source.choice((1, 5, "a", "b"))),
+    ))
+
+
+def drawn_condition(source):
+    return (source.choice("ab"), source.choice(("==", "!=", "<")), source.choice((0, 1, 1, 3, "a", "b")))
+
+
+def drawn_teller(source):
+    body = []
+    for _ in range(source.randrange(5)):
+        choice = source.randrange(8)
+        if choice < 3:
+            body.append(drawn_ask(source))
+        elif choice < 5:
+            body.append(drawn_plain(source))
+        elif choice < 7:
+            second = (("answer", source.randrange(2)),) if source.randrange(3) == 0 else ()
+            first = (drawn_plain(source), drawn_ask(source), ("answer", source.randrange(2)))[source.randrange(3):]
+            body.append(("if", drawn_condition(source), first, second))
+        else:
+            inside = (drawn_ask(source), drawn_plain(source))[source.randrange(2):]
+            body.append(("while", drawn_condition(source), inside))
+    body.append(source.choice((("answer", 0), ("answer", 0), ("answer", 0), ("answer", 1), ("wait", 2))))
+    return ("teller", tuple(body))
+
+
+def drawn_listing(source):
+    return source.choice((
+        ("list", source.choice((0, 1, 2, 3, 4, 9, "a", "b"))), ("grow", source.choice((1, 2, 7, "b"))), drawn_plain(source),
+    ))
+
+
+def drawn_collector(source):
+    before = tuple(drawn_listing(source) for _ in range(source.randrange(4)))
+    inside = tuple(drawn_listing(source) for _ in range(source.randrange(1, 6)))
+    if source.randrange(3) == 0:
+        return ("collector", before)
+    condition = source.choice((("a", "==", "a"), ("b", "<", 15), ("a", "!=", 1)))
+    return ("collector", before + (("while", condition, inside),))
+
+
+def drawn_machine(source):
+    return drawn_teller(source) if source.randrange(10) < 7 else drawn_collector(source)

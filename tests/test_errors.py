@@ -1,8 +1,18 @@
 import itertools
 import unittest
 
+from neithertells.assembly import assemble
+from neithertells.bounds import busiest
+from neithertells.desk import Desk
 from neithertells.errors import BadHistory, BadProgram, BadRow, BadSide, BadSteps, BadText, Busy, Full
 from neithertells.errors import HouseError, NoMachine, NothingDone, TooMany, Unsettled
+from neithertells.house import House
+from neithertells.listings import Listing
+from neithertells.notation import read, show
+from neithertells.papers import paper_of
+from neithertells.replay import replay
+from neithertells.runs import run
+from samples import program
 
 FORM_ERRORS = (BadProgram, BadText, BadSide, BadSteps, BadHistory, BadRow)
 OTHER_ERRORS = (NoMachine, Full, TooMany, Busy, Unsettled, NothingDone)
@@ -83,6 +93,74 @@ class AttributeTest(unittest.TestCase):
         for error in (BadText(1), BadText(None), BadHistory(1), BadHistory(None), NoMachine([0]), Full(8)):
             self.assertIsInstance(str(error), str)
             self.assertNotEqual(str(error), "")
+
+
+def house_of(*texts):
+    house = House()
+    for text in texts:
+        house.arrive(program(text), side="left")
+    return house
+
+
+class RaisedTest(unittest.TestCase):
+    """Each error as it is raised by each module."""
+
+    def check(self, error, bases, call, **attributes):
+        with self.assertRaises(bases) as caught:
+            call()
+        self.assertIs(type(caught.exception), error)
+        self.assertEqual(vars(caught.exception), attributes)
+        for name, value in attributes.items():
+            self.assertIs(type(getattr(caught.exception, name)), type(value))
+
+    def test_errors_about_arguments(self):
+        endless = Listing(program("collector; while a == 0; list 3; end"))
+        for error, call, attributes in (
+            (BadProgram, lambda: show(None), {}),
+            (BadProgram, lambda: assemble(None), {}),
+            (BadProgram, lambda: run(program("collector"), 0, []), {}),
+            (BadProgram, lambda: Listing(program("teller")), {}),
+            (BadProgram, lambda: House().arrive(None, side=None), {}),
+            (BadText, lambda: read("teller\nset a 16"), {"line": 1}),
+            (BadText, lambda: read("teller\nif a == 0"), {"line": 2}),
+            (BadText, lambda: read(None), {"line": None}),
+            (BadSide, lambda: House().arrive(program("teller"), side="up"), {}),
+            (BadSide, lambda: House().members("up"), {}),
+            (BadSide, lambda: House().guards("up"), {}),
+            (BadSteps, lambda: run(program("teller"), 0, [], limit=-1), {}),
+            (BadSteps, lambda: endless.until(-1), {}),
+            (BadSteps, lambda: House().advance(-1), {}),
+            (BadSteps, lambda: busiest(9), {}),
+            (BadSteps, lambda: Desk().say("advance 2" + 60 * "0"), {}),
+            (BadHistory, lambda: replay([("advance", 1), ("withdraw", 0)]), {"index": 1}),
+            (BadHistory, lambda: replay(None), {"index": None}),
+            (BadRow, lambda: Desk().say("advance -1"), {}),
+        ):
+            self.check(error, HouseError, call, **attributes)
+            self.check(error, ValueError, call, **attributes)
+
+    def test_the_other_errors(self):
+        def busy(call):
+            house = house_of("teller; answer 0")
+            house.advance(watch=lambda act: call(house))
+
+        restless, full = house_of("teller; answer 0"), house_of(*["teller"] * 8)
+        for error, base, call, attributes in (
+            (NoMachine, LookupError, lambda: House().withdraw(3), {"number": 3}),
+            (NoMachine, LookupError, lambda: restless.facts([0]), {"number": [0]}),
+            (NoMachine, LookupError, lambda: restless.acts(False), {"number": False}),
+            (NoMachine, LookupError, lambda: paper_of(restless, "0"), {"number": "0"}),
+            (NoMachine, LookupError, lambda: Desk().say("state 7"), {"number": 7}),
+            (Full, OverflowError, lambda: full.arrive(program("teller"), side="left"), {"most": 8}),
+            (TooMany, OverflowError, lambda: Listing(program("collector; while a == 0; list 3; end")).until(10 ** 9), {}),
+            (Busy, RuntimeError, lambda: busy(House.undo), {}),
+            (Busy, RuntimeError, lambda: busy(House.twin), {}),
+            (Busy, RuntimeError, lambda: busy(House.settle), {}),
+            (Unsettled, RuntimeError, lambda: paper_of(restless, 0), {}),
+            (NothingDone, IndexError, lambda: House().undo(), {}),
+            (NothingDone, IndexError, lambda: Desk().say("undo"), {}),
+        ):
+            self.check(error, base, call, **attributes)
 
 
 if __name__ == "__main__":

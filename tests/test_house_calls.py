@@ -6,7 +6,7 @@ from unittest.mock import ANY
 from neithertells.errors import BadProgram, BadSide, BadSteps, Busy, Full, NoMachine, NothingDone
 from neithertells.house import SIDES, House
 from neithertells.notation import show
-from samples import NO_INTEGERS, NO_PROGRAMS, nested_list, nested_tuple, program
+from samples import NO_INTEGERS, NO_PROGRAMS, nested_list, nested_tuple, program, view
 
 ZERO = program("teller; answer 0")
 ONE = program("teller; answer 1")
@@ -27,16 +27,6 @@ def busy_house():
     house.arrive(ASKS, side="right")
     house.arrive(ZERO, side="left")
     return house
-
-
-def view(house):
-    """All that the calls of a house tell."""
-    return (
-        house.clock(), house.numbers(), house.history(), house.next_act(), len(house), repr(house),
-        [house.members(side) for side in SIDES], [house.guards(side) for side in SIDES],
-        [(house.rank(number), house.is_satisfied(number), house.starts(number), house.acts(number), house.facts(number))
-         for number in house.numbers()],
-    )
 
 
 def full_house():

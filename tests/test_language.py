@@ -31,6 +31,9 @@ class LanguageTest(unittest.TestCase):
                 if isinstance(node, kinds):
                     yield path.name, node
 
+    def own_errors(self):
+        return {node.name for name, node in self.nodes(ast.ClassDef) if name == "errors.py"}
+
     def test_there_are_files(self):
         self.assertIn("__init__.py", [path.name for path in sources()])
         for path in PACKAGE.iterdir():
@@ -97,7 +100,8 @@ class LanguageTest(unittest.TestCase):
         for name, node in self.nodes(ast.Attribute):
             self.assertNotEqual(node.attr, "sort", name)
         for name, node in self.nodes(ast.ExceptHandler):
-            self.fail((name, node))
+            caught = node.type.elts if isinstance(node.type, ast.Tuple) else [node.type]
+            self.assertLessEqual({error.id for error in caught}, self.own_errors(), name)
         for name, node in self.nodes(ast.Try):
             for inner in node.finalbody:
                 self.assertIsInstance(inner, ast.Assign, name)
